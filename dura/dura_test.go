@@ -136,7 +136,7 @@ func TestParse(t *testing.T) { // P8.1
 		{"0s", 0}, {"-0s", 0}, {"0d", 0}, {"0ns", 0}, {"0d0h0m0s0ms0us0ns", 0}, {"1d", day}, {"1h", hour}, {"1m", minute}, {"1s", second}, {"1ms", milli}, {"1us", micro}, {"1ns", 1}, {"-1ns", -1},
 		{"1m30s", 90 * second}, {"-1m30s", -90 * second}, {"90s", 90 * second}, {"0m90s", 90 * second}, {"1d2h3m4s5ms6us7ns", day + 2*hour + 3*minute + 4*second + 5*milli + 6*micro + 7},
 		{"1m1ms", minute + milli}, {"1m1s1ms", minute + second + milli}, {"1d7ns", day + 7}, {"100h", 100 * hour}, {"25h61m61s1001ms1001us1001ns", 25*hour + 61*minute + 61*second + 1001*milli + 1001*micro + 1001},
-		{"00s", 0}, {"007s", 7 * second}, {"-01m030s", -90 * second}, {"000000000000000001ns", 1}, {"000000000000000000d", 0},
+		{"1m0s", minute}, {"0d3m", 3 * minute}, {"-0h1ns", -1}, {"10s", 10 * second}, {"-10h", -10 * hour}, {"100ns", 100}, {"101ms", 101 * milli}, {"10d0h20m0s30ms", 10*day + 20*minute + 30*milli}, {"100000000000000000ns", 100000000000000000},
 		{"never", never}, {"53375d23h53m38s427ms387us902ns", never - 1}, {"53375d23h53m38s427ms387us903ns", never}, {"53375d23h53m38s427ms387us904ns", never}, {"53376d", never},
 		{"-53375d23h53m38s427ms387us902ns", 1 - never}, {"-53375d23h53m38s427ms387us903ns", -never}, {"-53375d23h53m38s427ms387us904ns", -never}, {"-53376d", -never},
 		{"999999999999999999ns", 999999999999999999}, {"-999999999999999999ns", -999999999999999999}, {"999999999999999us", 999999999999999000}, {"999999999999999999us", never}, {"999999999999999999d", never}, {"-999999999999999999d", -never},
@@ -158,6 +158,7 @@ func TestParseWrong(t *testing.T) { // P8.1
 		"1D", "1H", "1M", "1S", "1MS", "1Ms", "1mS", "1NS", "1w", "1y", "1mo", "1min", "1sec", "1dd", "1dh", "1hm", "1sm", "1msus", "1n", "1u", "1sn", "1su", "1mss", "1nss", "1\u00b5s", "1\u03bcs", "1x", "1dx", "1d1x", "1x1d", "1day",
 		"never ", " never", "Never", "NEVER", "-never", "+never", "nevers", "neve", "never1s", "1snever", "nevernever", "1never", "0never",
 		"1000000000000000000ns", "4611686018427387902ns", "0000000000000000000s", "0000000000000000001s", "-1000000000000000000d", "1d1000000000000000000ns", "1000000000000000000d1ns", "9223372036854775808ns", "18446744073709551617ns",
+		"03m", "00s", "01s", "-00s", "-01h", "007s", "010s", "1m00s", "1m030s", "01m30s", "-01m030s", "1d02h", "0d00h", "00d0h", "0d01h", "1s0000ns", "000000000000000001ns", "000000000000000000d", "010000000000000000ns",
 		"1d2h3m4s5ms6us7ns8", "1d2h3m4s5ms6us7ns8ns", "1d2h3m4s5ms6us7ns8d", "01", "d", "dhms",
 		"\u0661s", "1\u0661s", "\uff11s", "\xffs", "1\xffs", "1s\x80", "/s", ":s", "1/s", "1:s",
 		strings.Repeat("9", 1000) + "s", strings.Repeat("0", 1000) + "s", strings.Repeat("1s", 1000), strings.Repeat("s", 1000), strings.Repeat("-", 1000), "1" + strings.Repeat("s", 1000),
@@ -168,8 +169,8 @@ func TestParseWrong(t *testing.T) { // P8.1
 	}
 }
 
-// durations are all texts of parts; each part's number is a group of its own.
-var durations = regexp.MustCompile(`^(-?)(?:([0-9]{1,18})d)?(?:([0-9]{1,18})h)?(?:([0-9]{1,18})m)?(?:([0-9]{1,18})s)?(?:([0-9]{1,18})ms)?(?:([0-9]{1,18})us)?(?:([0-9]{1,18})ns)?$`)
+// durations are all texts of parts; each part's number is a group of its own, without a needless 0.
+var durations = regexp.MustCompile(strings.ReplaceAll("^(-?)(?:Nd)?(?:Nh)?(?:Nm)?(?:Ns)?(?:Nms)?(?:Nus)?(?:Nns)?$", "N", "(0|[1-9][0-9]{0,17})"))
 
 // read is a text's duration, by numbers of any size.
 func read(s string) (int, bool) {
@@ -233,7 +234,7 @@ func TestParseShort(t *testing.T) { // P8.1
 		}
 	}
 	longer("")
-	if right < 1000 {
+	if right < 500 {
 		t.Errorf("only %d texts were read", right)
 	}
 }
@@ -251,7 +252,11 @@ func TestParseParts(t *testing.T) { // P8.1
 					name = names[r.Intn(7)]
 				}
 				digits := strconv.FormatUint(r.Uint64(), 10)
-				s += strings.Repeat("0", r.Intn(40)/37) + digits[:min(1+r.Intn(19), len(digits))] + name
+				digits = digits[:min(1+r.Intn(19), len(digits))]
+				if r.Intn(8) == 0 {
+					digits = "0"
+				}
+				s += strings.Repeat("0", r.Intn(40)/38) + digits + name
 				if r.Intn(8) > 0 {
 					break
 				}
@@ -263,6 +268,35 @@ func TestParseParts(t *testing.T) { // P8.1
 	}
 	if right < 10000 || right > 40000 {
 		t.Errorf("%d texts were read", right)
+	}
+}
+
+// TestParseNeedless puts zeros ahead of each part's number, of all lengths, in texts of one part and of all.
+func TestParseNeedless(t *testing.T) { // P8.1
+	names := strings.Fields("d h m s ms us ns")
+	for i, name := range names {
+		ahead, behind := "", ""
+		for j, other := range names {
+			if j < i {
+				ahead += "1" + other
+			} else if j > i {
+				behind += "0" + other
+			}
+		}
+		for _, digits := range []string{"0", "1", "7", "10", "100", "305", "12345678", "99999999999999999", "100000000000000000", "999999999999999999"} {
+			for _, around := range [][2]string{{"", ""}, {"-", ""}, {ahead, behind}, {"-" + ahead, behind}} {
+				text := around[0] + digits + name + around[1]
+				if !checkRead(t, text) {
+					t.Errorf("Parse(%q): false", text)
+				}
+				for zeros := 1; zeros <= 19; zeros++ {
+					text := around[0] + strings.Repeat("0", zeros) + digits + name + around[1]
+					if got, ok := Parse(text); got != 0 || ok {
+						t.Errorf("Parse(%q) = %d, %t, not false", text, got, ok)
+					}
+				}
+			}
+		}
 	}
 }
 
